@@ -108,7 +108,9 @@ func regionOf(b []byte) model {
 		}
 		m.snap = append(m.snap, f.body...)
 	}
-	m.end = all[k].at + 7
+	if m.end = all[k].at + 7; !bytes.Equal(b[:m.end], beginning(age, m.snap)) { // cut into other pieces than a snapshot is
+		return model{}
+	}
 	for _, f := range all[k+1:] {
 		if f.kind != 4 {
 			break
@@ -302,6 +304,7 @@ func opens(t *testing.T, what string, first, second []byte) {
 // P7.1: which regions count, by hand.
 func TestRegionsThatCount(t *testing.T) {
 	ready, one := framed(3, nil), region(1, "", "a", "bc", "")
+	full, last := framed(2, make([]byte, 4096)), framed(2, []byte("a"))
 	turned := func(b []byte, at int) []byte {
 		b = slices.Clone(b)
 		b[at] ^= 4
@@ -323,7 +326,7 @@ func TestRegionsThatCount(t *testing.T) {
 		{"nothing", nil, false},
 		{"an age of 0", region(0, "", "rec"), false},
 		{"an age of 0, then a head", append(headed(0, 0), one...), false},
-		{"an age of 0, then its pieces", slices.Concat(headed(0, 1), framed(2, []byte("a")), ready), false},
+		{"an age of 0, then its pieces", slices.Concat(headed(0, 1), last, ready), false},
 		{"no head", append(ready, one...), false},
 		{"another frame first", append(framed(5, nil), one...), false},
 		{"only a head", headed(2, 0), false},
@@ -334,16 +337,18 @@ func TestRegionsThatCount(t *testing.T) {
 		{"a byte of ready turned", turned(one, 11), false},
 		{"ready with a body", slices.Concat(headed(2, 0), framed(3, []byte{0}), one), false},
 		{"ready with a body, and ready", slices.Concat(headed(2, 0), framed(3, []byte{0}), ready), false},
-		{"a piece too few", slices.Concat(headed(2, 2), framed(2, []byte("a")), ready), false},
-		{"a piece too many", slices.Concat(headed(2, 1), framed(2, []byte("a")), framed(2, []byte("b")), ready), false},
-		{"a piece where none is told", slices.Concat(headed(2, 0), framed(2, []byte("a")), ready), false},
-		{"more pieces than there can be", slices.Concat(headed(2, math.MaxUint64), framed(2, []byte("a")), ready), false},
+		{"a piece too few", slices.Concat(headed(2, 2), full, ready), false},
+		{"a piece too many", slices.Concat(headed(2, 1), full, last, ready), false},
+		{"a piece where none is told", slices.Concat(headed(2, 0), last, ready), false},
+		{"more pieces than there can be", slices.Concat(headed(2, math.MaxUint64), full, ready), false},
 		{"as many as an int goes round at", slices.Concat(headed(2, 1<<63), ready), false},
 		{"as many as 32 bits go round at", slices.Concat(headed(2, 1<<32), ready), false},
-		{"a record among the pieces", slices.Concat(headed(2, 2), framed(2, []byte("a")), framed(4, []byte("b")), ready), false},
-		{"a head among the pieces", slices.Concat(headed(2, 1), headed(2, 1), framed(2, []byte("a")), ready), false},
+		{"a record among the pieces", slices.Concat(headed(2, 2), full, framed(4, []byte("b")), ready), false},
+		{"a head among the pieces", slices.Concat(headed(2, 1), headed(2, 1), last, ready), false},
 		{"two heads", slices.Concat(headed(2, 0), headed(2, 0), ready), false},
 		{"another kind of piece", slices.Concat(headed(2, 1), framed(5, []byte("a")), ready), false},
+		{"an empty piece", slices.Concat(headed(1, 1), framed(2, nil), ready), false},
+		{"two pieces of one byte", slices.Concat(headed(5, 2), last, last, ready, framed(4, nil)), false},
 		{"a head of nothing", append(framed(1, nil), ready...), false},
 		{"a head without pieces", append(framed(1, []byte{2}), ready...), false},
 		{"a head with more", append(framed(1, []byte{2, 0, 0}), ready...), false},
@@ -359,6 +364,33 @@ func TestRegionsThatCount(t *testing.T) {
 		for _, other := range [][]byte{nil, []byte("garbage"), region(1, "other", "x"), region(2, "", "y"), region(7, "last"), region(math.MaxUint64, "most")} {
 			opens(t, r.what+", first", r.b, other)
 			opens(t, r.what+", second", other, r.b)
+		}
+	}
+}
+
+// P7.1: pieces are those of a snapshot, if they are of MaxFrame bytes each, but the last one, that has what is left; else the region doesn't count.
+func TestPieces(t *testing.T) {
+	lengths := []int{0, 1, 2, 4095, 4096}
+	for n := range 4 {
+		for row := range int(math.Pow(5, float64(n))) {
+			b, counts := headed(5, uint64(n)), true
+			var told []int
+			for i := range n {
+				size := lengths[row%5]
+				row /= 5
+				told = append(told, size)
+				b = append(b, framed(2, bytes.Repeat([]byte{byte(i + 1)}, size))...)
+				counts = counts && size > 0 && (size == 4096 || i == n-1)
+			}
+			b = append(b, framed(3, nil)...)
+			b = append(b, framed(4, []byte("rec"))...)
+			if got := regionOf(b).age > 0; got != counts {
+				t.Errorf("pieces of %v bytes: the test's own model tells %v", told, got)
+			}
+			what := fmt.Sprintf("pieces of %v bytes", told)
+			opens(t, what+", first", b, nil)
+			opens(t, what+", second", nil, b)
+			opens(t, what+", behind an older one", region(4, "old", "x"), b)
 		}
 	}
 }
@@ -408,8 +440,12 @@ func rough(rnd *rand.Rand) []byte {
 	if rnd.IntN(6) == 0 {
 		pieces += rnd.IntN(3) - 1
 	}
-	for range pieces {
-		b = append(b, framed(2, random(rnd, rnd.IntN(5)))...)
+	for i := range pieces {
+		n := rnd.IntN(5)
+		if i < pieces-1 && rnd.IntN(4) > 0 {
+			n = 4096
+		}
+		b = append(b, framed(2, random(rnd, n))...)
 	}
 	if rnd.IntN(8) > 0 {
 		b = append(b, framed(3, random(rnd, rnd.IntN(6)/5))...)
@@ -439,7 +475,7 @@ func TestOpenAtRandom(t *testing.T) {
 	for range 4000 {
 		opens(t, "at random", rough(rnd), rough(rnd))
 		opens(t, "any bytes", random(rnd, rnd.IntN(40)), random(rnd, rnd.IntN(40)))
-		d := made(1000, rough(rnd), rough(rnd))
+		d := made(1<<14, rough(rnd), rough(rnd))
 		j := opened(t, d)
 		first, second, turned := d.Bytes(0), d.Bytes(1), d.Turned()
 		d.Cut(0)
