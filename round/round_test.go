@@ -874,6 +874,28 @@ func TestManyAtoms(t *testing.T) {
 	})
 }
 
+// P1 of the whole, P21.1: rounds of many agents that are all alike end; at last
+// all is asked of all, and the first ones have an item each.
+func TestAllAlike(t *testing.T) {
+	const items = 32
+	g := given{eps: 3}
+	for range 64 {
+		var as []api.Atom
+		for item := range items {
+			as = append(as, api.Atom{Set: 1 << item, Value: 10})
+		}
+		g.atoms = append(g.atoms, as)
+	}
+	want := round.Outcome{Round: 9, Total: 10 * items, Out: upTo(items, 64), Ended: true}
+	for i := range items {
+		want.Picks = append(want.Picks, api.Pick{Bidder: i, Set: 1 << i, Price: 10})
+	}
+	soon(t, "a floor of agents that are all alike", func() {
+		_, last := ended(g)
+		checkOutcome(t, "the last round", last, want)
+	})
+}
+
 // P2 of the whole: the same calls are answered the same.
 func TestAnswersHangOnCalls(t *testing.T) {
 	for _, g := range append(floors(10), wider(10)...) {

@@ -231,5 +231,5 @@ func (l *linear) rounded(open []option) found {
 	for _, p := range parts {
 		order = append(order, p.option)
 	}
-	return first(order)
+	return taking(order)
 }

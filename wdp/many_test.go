@@ -433,3 +433,130 @@ func TestRankedOfMany(t *testing.T) {
 		}
 	}
 }
+
+// dealt are lists of bids, dealt to bidders at random, so that many have the same ones.
+func dealt(rnd *rand.Rand, bidders int, lists [][]api.Bid) [][]api.Bid {
+	var all [][]api.Bid
+	for range bidders {
+		all = append(all, slices.Clone(lists[rnd.IntN(len(lists))]))
+	}
+	return all
+}
+
+// P16.1, P16.2: bidders many of which have the same bids: the first ones of them stand ahead.
+func TestSameBids(t *testing.T) {
+	rnd := rand.New(rand.NewPCG(31, 16))
+	for n := range 200 {
+		items, most := []int{6, 12, 24, 40, 64}[n%5], []int64{1, 2, 4, 30}[n%4]
+		lists := manyBids(1+n%3, 1+rnd.IntN(6), func() api.Bid {
+			return api.Bid{Set: someItems(rnd, items, 1+rnd.IntN(1+items/4)), Price: rnd.Int64N(most)}
+		})
+		all := dealt(rnd, 2+rnd.IntN(5), lists)
+		checkGiven(t, "Solve", all, solved(all), firstOf(all, every))
+		if n%4 == 0 {
+			want := rankedOf(all)
+			checkAll(t, "Ranked", all, gather(all, len(want)+1), want)
+		}
+	}
+}
+
+// P16.1, P16.2: bids that are hard, which many bidders have alike.
+func TestHardSameBids(t *testing.T) {
+	if testing.Short() {
+		t.Skip("takes some seconds")
+	}
+	rnd := rand.New(rand.NewPCG(32, 16))
+	for n := range 8 {
+		few := int64([]int{1, 3, 1000}[n%3])
+		lists := manyBids(1+n%4, 12, func() api.Bid {
+			return api.Bid{Set: someItems(rnd, 21, 2+rnd.IntN(3)), Price: 10 + rnd.Int64N(few)}
+		})
+		all := dealt(rnd, 9, lists)
+		first := sharedOf(all, 21)
+		checkGiven(t, "Solve", all, solved(all), first)
+		checkGiven(t, "the first one of Ranked", all, gather(all, 1)[0], first)
+	}
+}
+
+// P16.1, P16.2: hard bids of small prices, and bidders behind them with great
+// ones: each for an item of its own, or for some more with one of the others.
+func TestFarPrices(t *testing.T) {
+	const hard, great, items = 9, 5, 16
+	for seed := range uint64(8) {
+		rnd := rand.New(rand.NewPCG(33, seed))
+		all := manyBids(hard, 12, func() api.Bid {
+			return api.Bid{Set: someItems(rnd, items, 2), Price: 10 + rnd.Int64N(3)}
+		})
+		gain, links := 1+rnd.Int64N(12), rnd.Perm(items)[:great]
+		for k, item := range links {
+			own := uint64(1) << (30 + k)
+			all = append(all, []api.Bid{{Set: own, Price: big - gain}, {Set: own | 1<<item, Price: big}})
+		}
+		want := given{total: -1}
+		for linked := range 1 << great { // those that have the item of the others: the less of them, the farther ahead
+			free := every
+			for k, item := range links {
+				if linked>>k&1 == 1 {
+					free &^= 1 << item
+				}
+			}
+			g := sharedWithin(all[:hard], 0, 0, items, free)
+			for k := range great {
+				b := all[hard+k][linked>>k&1]
+				g.picks, g.total = append(g.picks, api.Pick{Bidder: hard + k, Set: b.Set, Price: b.Price}), g.total+b.Price
+			}
+			if g.total > want.total || g.total == want.total && wdp.Better(all, g.picks, want.picks) < 0 {
+				want = g
+			}
+		}
+		soon(t, "Solve", func() { checkGiven(t, "Solve", all, solved(all), want) })
+	}
+}
+
+// rings are bids of 64 bidders for each row of neighbouring items of a ring,
+// all at one price, but for the last bidders, whose price is another one.
+func rings(long, items, last int, price, other int64) [][]api.Bid {
+	all := make([][]api.Bid, 64)
+	for i := range all {
+		for start := range items {
+			b := api.Bid{Price: price}
+			for k := range long {
+				b.Set |= 1 << ((start + k) % items)
+			}
+			if i >= 64-last {
+				b.Price = other
+			}
+			all[i] = append(all[i], b)
+		}
+	}
+	return all
+}
+
+// P16.1, P16.2: 64 bidders that bid alike for more rows of items than there are
+// bidders, or less: the greater price has it, or the first ones.
+func TestRings(t *testing.T) {
+	for _, r := range []struct {
+		long, items, last int
+		price, other      int64
+	}{
+		{1, 32, 32, 0, 3}, {1, 22, 40, 0, 3}, {1, 32, 16, 5, 7}, {1, 64, 30, 6, 7}, {1, 40, 5, 7, 7},
+		{2, 32, 40, 0, 3}, {2, 33, 16, 6, 9}, {2, 33, 32, 3, 6}, {2, 47, 20, 8, 8},
+		{3, 32, 17, 6, 9}, {3, 64, 44, 6, 9}, {3, 64, 0, 6, 9}, {5, 64, 29, 6, 9}, {5, 64, 16, 9, 10}, {7, 64, 20, 1, 1},
+	} {
+		all := rings(r.long, r.items, r.last, r.price, r.other)
+		var want given
+		places := r.items / r.long
+		start, end := 64-r.last, 64 // who has the greater price
+		if r.other <= r.price {
+			start, end = 0, 64
+		}
+		ahead := max(places-(end-start), 0) // of those of the less one, the first ones have what is left
+		for i := range all {
+			if place := len(want.picks); place < places && (i < ahead || i >= start && i < end) {
+				p := api.Pick{Bidder: i, Set: (1<<r.long - 1) << (place * r.long), Price: all[i][0].Price}
+				want.picks, want.total = append(want.picks, p), want.total+p.Price
+			}
+		}
+		soon(t, "Solve", func() { checkGiven(t, "Solve", all, solved(all), want) })
+	}
+}

@@ -33,7 +33,7 @@ func (n *narrow) look(open []option, at state, lost int64) {
 		n.end(lost)
 		return
 	}
-	for _, o := range k.options(open) {
+	for _, o := range k.options(open, at) {
 		n.taken = append(n.taken, o)
 		n.step(open, at.without(o.Pick), lost+o.loss)
 		n.taken = n.taken[:len(n.taken)-1]

@@ -32,13 +32,10 @@ const (
 
 // pricesOf are good prices for options, and an assignment that goes by them.
 func pricesOf(open []option, up *prices) (*prices, found) {
-	greatest := int64(1)
-	for _, o := range open {
-		greatest = max(greatest, o.Price)
-	}
+	greatest := greatestOf(open)
 	l := newLinear(open, greatest)
 	l.solve()
-	p := &prices{up: up, shift: min(mostBits-bits.Len64(uint64(greatest)), mostShift)}
+	p := &prices{up: up, shift: shiftOf(open)}
 	for item, worth := range l.exact(open, greatest, p.shift) {
 		p.items[item] = min(max(worth, 0), greatest<<p.shift)
 	}
@@ -46,11 +43,44 @@ func pricesOf(open []option, up *prices) (*prices, found) {
 	return p, l.rounded(open)
 }
 
-// of are the same prices of items for other options.
-func (p *prices) of(open []option) *prices {
-	own := &prices{up: p, shift: p.shift, items: p.items}
+// of are some prices of items for other options, behind those that there were so far.
+func (p *prices) of(open []option, items *prices) *prices {
+	own := &prices{up: p, shift: items.shift, items: items.items}
 	own.reckon(open)
 	return own
+}
+
+// spread are prices for all options. The items that these aren't for cost what
+// bids for them give above what these tell already.
+func (p *prices) spread(all []option) *prices {
+	shift := min(p.shift, shiftOf(all))
+	wide := &prices{shift: shift}
+	for item, price := range p.items {
+		wide.items[item] = price >> (p.shift - shift)
+	}
+	for _, o := range all {
+		lack := o.Price<<shift - wide.cost(o.Set) - p.above[o.Bidder]>>(p.shift-shift)
+		for item := range set.Items(o.Set &^ p.at.items) {
+			wide.items[item] += max(lack, 0)
+			break
+		}
+	}
+	wide.reckon(slices.Clone(all))
+	return wide
+}
+
+// greatestOf is the greatest price of options, at least 1.
+func greatestOf(open []option) int64 {
+	greatest := int64(1)
+	for _, o := range open {
+		greatest = max(greatest, o.Price)
+	}
+	return greatest
+}
+
+// shiftOf is in how small parts prices for options can be told.
+func shiftOf(open []option) int {
+	return min(mostBits-bits.Len64(uint64(greatestOf(open))), mostShift)
 }
 
 // reckon tells what bidders have above the prices, what is lost by each option, and the total.
@@ -97,12 +127,14 @@ func (p *prices) upper(at state) int64 {
 // slack is how much may be lost at most, if need is got.
 func (p *prices) slack(need int64) int64 { return p.total - need<<p.shift }
 
-// knot is a bidder or an item, for which there's one of a few options, or else it is left.
+// knot is a bidder or an item, for which there's one of a few options, or else
+// it is left. With a bidder all that have the same bids are left: if one of them
+// has nothing, it may as well be the last one.
 type knot struct {
-	bidder bool
-	place  int
-	loss   int64 // if it is left
-	ways   int   // how many options there are, and one more, if it may be left
+	bidders uint64 // the bidder, and all that have the same bids; none: it's an item
+	place   int
+	loss    int64 // if it is left
+	ways    int   // how many options there are, and one more, if it may be left
 }
 
 // before tells whether a knot is better to go on with: less ways, or more to lose.
@@ -122,32 +154,47 @@ func (p *prices) knot(open []option, at state, slack int64) (knot, bool) {
 			best = k
 		}
 	}
-	bidders, items := counts(open)
+	c := countsOf(open, at)
 	for i := range set.Items(at.bidders) {
-		offer(knot{true, i, p.above[i], bidders[i]})
+		if alike := c.alike[i]&at.bidders | 1<<i; first(alike, i) {
+			offer(knot{alike, i, p.above[i] * int64(set.Count(alike)), c.bidders[i]})
+		}
 	}
 	for i := range set.Items(at.items) {
-		offer(knot{false, i, p.items[i], items[i]})
+		offer(knot{0, i, p.items[i], c.items[i]})
 	}
 	return best, best.loss > 0
 }
 
-// counts are how many options there are of each bidder and of each item.
-func counts(open []option) (bidders [api.MaxBidders]int, items [api.MaxItems]int) {
-	for _, o := range open {
-		bidders[o.Bidder]++
-		for item := range set.Items(o.Set) {
-			items[item]++
-		}
-	}
-	return bidders, items
+// counts are how many options there are to be tried of each bidder and of each
+// item, and the bidders that have the same bids as each.
+type counts struct {
+	bidders [api.MaxBidders]int
+	items   [api.MaxItems]int
+	alike   [api.MaxBidders]uint64
 }
 
-// options are a knot's options, those by which least is lost ahead.
-func (k knot) options(open []option) []option {
+// countsOf are the counts of a state's options.
+func countsOf(open []option, at state) counts {
+	var c counts
+	for _, o := range open {
+		c.alike[o.Bidder] = o.alike
+		if !at.first(o) {
+			continue
+		}
+		c.bidders[o.Bidder]++
+		for item := range set.Items(o.Set) {
+			c.items[item]++
+		}
+	}
+	return c
+}
+
+// options are a knot's options to be tried, those by which least is lost ahead.
+func (k knot) options(open []option, at state) []option {
 	var own []option
 	for _, o := range open {
-		if k.has(o) {
+		if k.has(o) && at.first(o) {
 			own = append(own, o)
 		}
 	}
@@ -157,7 +204,7 @@ func (k knot) options(open []option) []option {
 
 // has tells whether an option is a knot's.
 func (k knot) has(o option) bool {
-	if k.bidder {
+	if k.bidders != 0 {
 		return o.Bidder == k.place
 	}
 	return set.Has(o.Set, k.place)
@@ -165,8 +212,8 @@ func (k knot) has(o option) bool {
 
 // left is a state without a knot.
 func (k knot) left(at state) state {
-	if k.bidder {
-		return state{at.bidders &^ (1 << k.place), at.items}
+	if k.bidders != 0 {
+		return state{at.bidders &^ k.bidders, at.items}
 	}
 	return state{at.bidders, at.items &^ (1 << k.place)}
 }

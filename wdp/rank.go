@@ -14,6 +14,7 @@ import (
 // they come to the top: so most of them are never told apart.
 type ranking struct {
 	lists [][]api.Bid
+	alike []uint64 // bidder by bidder those that have the same bids
 	all   []option
 	heap  *heap.Heap[*begun]
 	table *table // if there's one, it tells all; else the search does
@@ -32,11 +33,12 @@ type begun struct {
 	count  int    // how many they are
 	choice int    // the place of the last one's bid among its own; behind all of them: it has none
 	free   uint64
-	total  int64 // what they get
-	most   int64 // what they and the others get at most
-	sure   bool  // that they get it
-	rest   found // if the search found that: what the others have then
-	tried  bool  // the search has looked at it, but not to the end
+	total  int64   // what they get
+	most   int64   // what they and the others get at most
+	sure   bool    // that they get it
+	rest   found   // if the search found that: what the others have then
+	tried  bool    // the search has looked at it, but not to the end
+	below  []int64 // by choice: how much those get at most in which the next bidder has that
 }
 
 const (
@@ -49,7 +51,8 @@ const (
 
 // newRanking is all assignments of clean bids.
 func newRanking(lists [][]api.Bid) *ranking {
-	r := &ranking{lists: lists, heap: heap.New((*begun).before), all: optionsOf(lists)}
+	r := &ranking{lists: lists, alike: alikeOf(lists), heap: heap.New((*begun).before)}
+	r.all = optionsOf(lists, r.alike)
 	if costOf(r.all) <= max(smallTable, tableLooks*weight(r.all)) {
 		r.table = newTable(r.all)
 	} else {
@@ -97,7 +100,7 @@ func (r *ranking) bound(b *begun, most int64) {
 	case r.table != nil:
 		b.most, b.sure = b.total+r.table.from(b.count, b.free), true
 	default:
-		b.most = min(most, b.total+r.prices.upper(b.left()))
+		b.most = min(most, b.total+r.search.upper(b.left(), r.prices))
 	}
 }
 
@@ -124,6 +127,7 @@ func (r *ranking) next() ([]api.Pick, int64, bool) {
 		switch {
 		case !b.sure:
 			r.settle(b)
+			b.tell()
 			r.heap.Put(b)
 		case b.count == len(r.lists):
 			return r.picks(b), b.total, true
@@ -149,6 +153,10 @@ func (r *ranking) settle(b *begun) {
 // seek asks the search how much b gets. At first it asks no more than whether
 // that's as much as what is next to b in the heap: that costs less.
 func (r *ranking) seek(b *begun) {
+	if upper := b.total + r.search.upper(b.left(), r.prices); upper < b.most {
+		b.most = upper
+		return
+	}
 	for b.most < r.goal {
 		r.widen()
 	}
@@ -168,6 +176,9 @@ func (r *ranking) seek(b *begun) {
 // for sure in which it has something else of the same price, that the others leave.
 func (r *ranking) split(b *begun) {
 	own := r.lists[b.count]
+	if r.alike[b.count]>>b.count > 1 {
+		b.below = make([]int64, len(own)+1)
+	}
 	has, _ := b.rest.has(b.count)
 	var others uint64
 	for _, p := range b.rest.picks {
@@ -187,10 +198,31 @@ func (r *ranking) split(b *begun) {
 // alike tells whether they get as much for sure.
 func (r *ranking) add(up *begun, choice int, bid api.Bid, alike bool) {
 	b := &begun{up: up, count: up.count + 1, choice: choice, free: up.free &^ bid.Set, total: up.total + bid.Price}
-	if r.bound(b, up.most); alike && !b.sure {
+	if r.bound(b, r.turned(b)); alike && !b.sure {
 		b.most, b.sure, b.rest = up.most, true, up.rest
 	}
+	b.tell()
 	r.heap.Put(b)
+}
+
+// turned is how much b gets at most by what is known of those in which a
+// bidder ahead that has the same bids has what the last one has in b: with what
+// these two have turned round, what is in b is in there, too.
+func (r *ranking) turned(b *begun) int64 {
+	most := b.up.most
+	for up := b.up; up.up != nil; up = up.up {
+		if below := up.up.below; below != nil && set.Has(r.alike[b.count-1], up.count-1) {
+			most = min(most, below[b.choice])
+		}
+	}
+	return most
+}
+
+// tell lets be known how much b gets at most.
+func (b *begun) tell() {
+	if b.up != nil && b.up.below != nil {
+		b.up.below[b.choice] = b.most
+	}
 }
 
 // picks are what all bidders have.

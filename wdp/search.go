@@ -5,8 +5,10 @@ import "math"
 // search looks for best assignments. What it finds out of some bidders, with
 // all of their bids within some items, it knows from then on.
 type search struct {
-	unit  int64 // unlike totals are as far from each other as this, or farther
-	turns int   // how many times new prices were asked for
+	all   []option
+	unit  int64     // unlike totals are as far from each other as this, or farther
+	turns int       // how many times new prices were asked for
+	wide  []*prices // the last ones of these, for all options
 	known map[state]known
 }
 
@@ -22,15 +24,19 @@ const (
 	// How often all options may be looked at with prices that stay.
 	fewLooks  = 100
 	manyLooks = 300
-	// If there are about so few assignments, that may be as often as it takes.
+	// If there are about so few assignments, all of them may be gone through; and
+	// how much may be looked at for that, as there may be more of them.
 	fewAssignments = 1 << 20
+	allLooks       = 1 << 28
 	// What a table may cost, in looks; as much again for each time that new prices were asked for.
 	tableLooks = 256
+	// How many prices for all options are kept.
+	mostWide = 16
 )
 
 // newSearch knows nothing yet.
 func newSearch(all []option) *search {
-	s := &search{known: map[state]known{}}
+	s := &search{all: all, known: map[state]known{}}
 	for _, o := range all {
 		s.unit = divisor(s.unit, o.Price)
 	}
@@ -44,6 +50,31 @@ func divisor(a, b int64) int64 {
 		a, b = b, a%b
 	}
 	return a
+}
+
+// keep keeps prices, made for all options. They may well tell of other states
+// that are like the one that they were asked for.
+func (s *search) keep(p *prices) {
+	if len(s.wide) == mostWide {
+		s.wide = s.wide[1:]
+	}
+	s.wide = append(s.wide, p.spread(s.all))
+}
+
+// near is, of some prices and those that are kept, those by which a state can get the least.
+func (s *search) near(at state, p *prices) *prices {
+	least := p.upper(at)
+	for _, other := range s.wide {
+		if upper := other.upper(at); upper < least {
+			p, least = other, upper
+		}
+	}
+	return p
+}
+
+// upper is how much a state can get at most, by some prices and those that are kept.
+func (s *search) upper(at state, p *prices) int64 {
+	return s.near(at, p).upper(at) / s.unit * s.unit
 }
 
 // aim is a total that is needed, and an assignment that has it, if there's one; then more is needed.
@@ -111,13 +142,14 @@ func (s *search) look(open []option, need int64, p *prices) (found, bool) {
 		a.take(newTable(open).best())
 		return a.best, a.ok
 	}
-	p = p.of(open)
+	p = p.of(open, s.near(stateOf(open), p))
 	open, done := a.steady(p, open, fewLooks)
 	if done {
 		return a.best, a.ok
 	}
 	s.turns++
 	p, f := pricesOf(open, p)
+	s.keep(p)
 	a.take(f)
 	if open, done = a.steady(p, open, manyLooks); !done {
 		s.branch(a, open, p)
@@ -134,7 +166,7 @@ func (a *aim) steady(p *prices, open []option, looks int) ([]option, bool) {
 	open = within(open, p.at, p.slack(a.need))
 	n := narrow{prices: p, unit: a.unit << p.shift, slack: p.slack(a.need), work: looks * weight(open)}
 	if assignments(open) <= fewAssignments {
-		n.work = math.MaxInt
+		n.work = max(n.work, allLooks)
 	}
 	n.look(open, p.at, 0)
 	if n.found {
@@ -150,7 +182,7 @@ func (s *search) branch(a *aim, open []option, p *prices) {
 		return
 	}
 	k, _ := p.knot(open, p.at, p.slack(a.need))
-	for _, o := range k.options(open) {
+	for _, o := range k.options(open, p.at) {
 		if o.loss <= p.slack(a.need) {
 			s.behind(a, foundOf(o), within(open, p.at.without(o.Pick), math.MaxInt64), p)
 		}

@@ -1,6 +1,7 @@
 package wdp
 
 import (
+	"math/bits"
 	"slices"
 
 	"saleroom/api"
@@ -42,22 +43,43 @@ func (s state) may(p api.Pick) bool {
 	return set.Has(s.bidders, p.Bidder) && set.Within(p.Set, s.items)
 }
 
-// option is a bid that may be taken, and what is lost by it (see prices).
+// option is a bid that may be taken, what is lost by it (see prices), and the
+// bidders that have the same bids: of these only the first one is tried.
 type option struct {
 	api.Pick
-	loss int64
+	loss  int64
+	alike uint64
 }
 
 // optionsOf are all bids, bidder by bidder.
-func optionsOf(lists [][]api.Bid) []option {
+func optionsOf(lists [][]api.Bid, alike []uint64) []option {
 	var all []option
 	for i, bs := range lists {
 		for _, b := range bs {
-			all = append(all, option{Pick: pickOf(i, b)})
+			all = append(all, option{Pick: pickOf(i, b), alike: alike[i]})
 		}
 	}
 	return all
 }
+
+// alikeOf are, bidder by bidder, those that have the same bids.
+func alikeOf(lists [][]api.Bid) []uint64 {
+	alike := make([]uint64, len(lists))
+	for i, own := range lists {
+		for k, bs := range lists {
+			if slices.Equal(bs, own) {
+				alike[i] |= 1 << k
+			}
+		}
+	}
+	return alike
+}
+
+// first tells whether an option's bidder is the first one of a state's bidders that have the same bids.
+func (s state) first(o option) bool { return first(o.alike&s.bidders, o.Bidder) }
+
+// first tells whether a bidder is the first one of some.
+func first(bidders uint64, bidder int) bool { return bits.TrailingZeros64(bidders) == bidder }
 
 // pickOf is a bidder's bid, taken.
 func pickOf(bidder int, b api.Bid) api.Pick {
@@ -154,8 +176,8 @@ func tops(open []option) (found, bool) {
 	return f, true
 }
 
-// first takes options one by one, as they stand, if they can be added.
-func first(order []option) found {
+// taking takes options one by one, as they stand, if they can be added.
+func taking(order []option) found {
 	var f found
 	var at state
 	for _, o := range order {
@@ -168,15 +190,14 @@ func first(order []option) found {
 }
 
 // assignments is about how many assignments there are of options, told by how
-// many of some pairs of them can be taken both.
+// many pairs of some of them can be taken both.
 func assignments(open []option) float64 {
-	const some = 64
-	far := len(open)/some + 1
+	own := some(open)
 	pairs, both := 1.0, 1.0
-	for i := 0; i < len(open); i += far {
-		for j := i + far; j < len(open); j += far {
+	for i, a := range own {
+		for _, b := range own[i+1:] {
 			pairs++
-			if (state{}.with(open[i].Pick)).apart(state{}.with(open[j].Pick)) {
+			if (state{}.with(a.Pick)).apart(state{}.with(b.Pick)) {
 				both++
 			}
 		}
@@ -188,4 +209,21 @@ func assignments(open []option) float64 {
 		sum += next
 	}
 	return sum
+}
+
+// some are a few options from all over. They are at no steady steps: options
+// often stand in rows that are alike, all of which such steps could meet at
+// the same item.
+func some(open []option) []option {
+	const few = 64
+	if len(open) <= few {
+		return open
+	}
+	var own []option
+	at := uint64(1)
+	for range few {
+		at = at*6364136223846793005 + 1442695040888963407
+		own = append(own, open[at>>33%uint64(len(open))])
+	}
+	return own
 }
